@@ -1,0 +1,1 @@
+"""Sealed-bid auctions with unit demand: sealedlots.auction.answers(calls)."""
