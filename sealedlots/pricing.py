@@ -23,9 +23,9 @@ def maximum_prices(reserves, bids):
     return prices
 
 
-def without(row, lot):
-    """A copy of row that lacks the number of the lot."""
-    return row[:lot] + row[lot + 1:]
+def without(row, at):
+    """A copy of row that lacks what stands at this place."""
+    return row[:at] + row[at + 1:]
 
 
 def demand_set(row, prices):

@@ -1,8 +1,8 @@
 """Cuts the list that is handed in into calls."""
 
 # By the number of the operation.
-WITH_BIDDER = (1, 8)
-WITH_ROW = (0, 1, 7, 8)
+WITH_BIDDER = (1, 8, 11, 12, 13, 14)
+WITH_ROW = (0, 1, 7, 8, 9, 11, 12, 13)
 
 
 class Call:

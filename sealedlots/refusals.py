@@ -13,8 +13,8 @@ MOST_LOTS = 4
 
 # By the number of the operation.
 ONLY_BEFORE_CLOSING = (1, 2)
-ONLY_AFTER_CLOSING = (3, 4, 5, 6, 7, 8)
-LARGEST_IN_ROW = {0: 60, 1: 60, 7: 1000, 8: 1000}
+ONLY_AFTER_CLOSING = (3, 4, 5, 6, 7, 8, 9, 10, 11, 12, 13, 14, 16)
+LARGEST_IN_ROW = {0: 60, 1: 60, 7: 1000, 8: 1000, 9: 1000, 11: 60, 12: 60, 13: 60}
 
 
 def first_refusal(auction, call):

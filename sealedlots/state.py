@@ -43,3 +43,9 @@ class Auction:
             else:
                 rows.append(row)
         return rows
+
+    def counted_bids_with(self, i, row):
+        """The same, as if bidder i had submitted this row."""
+        rows = self.counted_bids()
+        rows[i] = row
+        return rows

@@ -12,6 +12,10 @@ RESULT = [3]
 MINIMUM = [4]
 MAXIMUM = [5]
 TOTAL = [6]
+CLOCK = [10]
+SUBMITTED = [15]
+BIDS = [16]
+SUMMARY = [17]
 
 
 def new(reserves):
@@ -28,6 +32,26 @@ def check(prices):
 
 def demand(i, prices):
     return [8, i, len(prices), *prices]
+
+
+def overdemanded(prices):
+    return [9, len(prices), *prices]
+
+
+def hypothetical(i, bids):
+    return [11, i, len(bids), *bids]
+
+
+def utility(i, values):
+    return [12, i, len(values), *values]
+
+
+def truthful(i, values):
+    return [13, i, len(values), *values]
+
+
+def total_without(i):
+    return [14, i]
 
 
 def flat(calls):
@@ -81,3 +105,11 @@ def after_closing(reserves, bids, *calls):
     """The answers to calls that stand behind those of a closed auction."""
     before = auction(reserves, bids)
     return ask(*before, *calls)[len(before):]
+
+
+def after_closing_in_parts(reserves, bids, calls):
+    """The same for any number of calls: as many lists as the document's bounds make necessary."""
+    answered = []
+    for start in range(0, len(calls), 12):
+        answered += after_closing(reserves, bids, *calls[start:start + 12])
+    return answered

@@ -96,11 +96,28 @@ def first_overdemanded(bids, prices):
     return None
 
 
-def clock_prices(reserves, bids):
-    """The prices at which the ascending clock ends."""
-    prices = list(reserves)
+def clock(reserves, bids):
+    """The sets of all rounds, and the prices at the end."""
+    sets, prices = [], list(reserves)
     members = first_overdemanded(bids, prices)
     while members is not None:
+        sets.append(members)
         prices = [price + (members >> lot & 1) for lot, price in enumerate(prices)]
         members = first_overdemanded(bids, prices)
-    return prices
+    return sets, prices
+
+
+def results(reserves, bids):
+    """For each bidder the lot and the payment."""
+    prices = minimum_prices(reserves, bids)
+    return [(lot, 0 if lot == -1 else prices[lot]) for lot in best(reserves, bids)[1]]
+
+
+def result_if(reserves, bids, i, row):
+    """The lot and the payment of bidder i, if row were the bids of i."""
+    return results(reserves, bids[:i] + [row] + bids[i + 1:])[i]
+
+
+def utility(result, values):
+    lot, payment = result
+    return 0 if lot == -1 else values[lot] - payment

@@ -1,133 +1,144 @@
-"""The answers against the document's definitions and requirements, over many auctions."""
+"""The answers against the document's definitions, tried out case by case over many auctions."""
 
-import itertools
 import random
 import unittest
 
 from tests import oracle
-from tests.helpers import CLOSE, MAXIMUM, MINIMUM, RESULT, TOTAL, after_closing, ask, check, demand, new, submit
+from tests.auctions import many_auctions, prices_near, small_auctions, some_rows
+from tests.helpers import (
+    BIDS, CLOCK, MAXIMUM, MINIMUM, RESULT, SUBMITTED, SUMMARY, TOTAL, after_closing, after_closing_in_parts, check,
+    demand, hypothetical, overdemanded, total_without, truthful, utility)
 
 
-def small_auctions(count, lots, highest, seed):
-    """Auctions of few and small numbers, so that there are many ties; some bidders without bids."""
-    source = random.Random(seed)
-    for _ in range(count):
-        reserves = [source.randint(0, highest) for _ in range(lots)]
-        bids = []
-        for _ in range(5):
-            row = [source.randint(0, highest) for _ in range(lots)]
-            bids.append(None if source.randint(0, 4) == 0 else row)
-        yield reserves, bids
+def listed(row):
+    return [len(row)] + list(row)
 
 
-def many_auctions():
-    """Auctions of one to four lots, from those full of ties to those of the largest numbers."""
-    for lots in range(1, 5):
-        for highest, count in ((1, 30), (2, 30), (5, 30), (60, 30)):
-            yield from small_auctions(count, lots, highest, seed=100 * lots + highest)
-
-
-def prices_of(answer):
-    assert answer[0] == 0 and answer[1] == len(answer) - 2, answer
-    return answer[2:]
-
-
-class DefinitionsTest(unittest.TestCase):
+class ResultAndPricesTest(unittest.TestCase):
 
     def test_result_and_total_value(self):
         for reserves, bids in many_auctions():
             result, total = after_closing(reserves, bids, RESULT, TOTAL)
             counted = oracle.counted(bids, len(reserves))
-            value, allocation = oracle.best(reserves, counted)
-            prices = oracle.minimum_prices(reserves, counted)
-            expected = []
-            for lot in allocation:
-                expected += [-1, 0] if lot == -1 else [lot, prices[lot]]
-            self.assertEqual((result, total), ([0] + expected, [0, value]), (reserves, bids))
+            expected = [number for pair in oracle.results(reserves, counted) for number in pair]
+            self.assertEqual(result, [0] + expected, (reserves, bids))
+            self.assertEqual(total, [0, oracle.best(reserves, counted)[0]], (reserves, bids))
 
     def test_minimum_and_maximum_prices(self):
         for reserves, bids in many_auctions():
             low, high = after_closing(reserves, bids, MINIMUM, MAXIMUM)
             counted = oracle.counted(bids, len(reserves))
-            self.assertEqual(prices_of(low), oracle.minimum_prices(reserves, counted), (reserves, bids))
-            self.assertEqual(prices_of(high), oracle.maximum_prices(reserves, counted), (reserves, bids))
+            self.assertEqual(low, [0] + listed(oracle.minimum_prices(reserves, counted)), (reserves, bids))
+            self.assertEqual(high, [0] + listed(oracle.maximum_prices(reserves, counted)), (reserves, bids))
 
-    def test_check_prices_and_demand_set(self):
+    def test_check_prices_demand_set_and_overdemanded_set(self):
         source = random.Random(7)
         for reserves, bids in many_auctions():
             counted = oracle.counted(bids, len(reserves))
             allocation = oracle.best(reserves, counted)[1]
             low = oracle.minimum_prices(reserves, counted)
             high = oracle.maximum_prices(reserves, counted)
-            tried = [reserves, low, high]
-            for _ in range(7):
-                near = [source.randint(a, b) + source.choice((0, 0, 0, 0, -1, 1)) for a, b in zip(low, high)]
-                tried.append([max(0, price) for price in near])
+            tried = [reserves, low, high] + [prices_near(source, low, high) for _ in range(7)]
             answered = after_closing(reserves, bids, *[check(prices) for prices in tried])
             expected = [[0] + oracle.check(reserves, counted, allocation, prices) for prices in tried]
             self.assertEqual(answered, expected, (reserves, bids, tried))
             for i in range(5):
                 answered = after_closing(reserves, bids, *[demand(i, prices) for prices in tried])
-                expected = [oracle.demand_set(counted[i], prices) for prices in tried]
-                self.assertEqual(answered, [[0, len(lots)] + lots for lots in expected], (reserves, bids, tried))
+                expected = [[0] + listed(oracle.demand_set(counted[i], prices)) for prices in tried]
+                self.assertEqual(answered, expected, (reserves, bids, tried))
 
 
-class RequirementsTest(unittest.TestCase):
+class ClockTest(unittest.TestCase):
 
-    def test_no_allocation_has_a_larger_value(self):
+    def expect_overdemanded(self, reserves, bids, tried):
+        counted = oracle.counted(bids, len(reserves))
+        answered = after_closing_in_parts(reserves, bids, [overdemanded(prices) for prices in tried])
+        found = [oracle.first_overdemanded(counted, prices) for prices in tried]
+        expected = [[0, 0] if members is None else [0, 1, members] for members in found]
+        self.assertEqual(answered, expected, (reserves, bids, tried))
+
+    def test_overdemanded_set_at_low_prices(self):
         for reserves, bids in many_auctions():
-            result, total = after_closing(reserves, bids, RESULT, TOTAL)
-            counted = oracle.counted(bids, len(reserves))
-            self.assertEqual(total, [0, oracle.value_of(result[1::2], reserves, counted)])
-            for allocation in oracle.allocations(5, len(reserves)):
-                self.assertLessEqual(oracle.value_of(allocation, reserves, counted), total[1])
+            lots = len(reserves)
+            tried = [reserves, [0] * lots, [1] * lots, [60] * lots, [1000] * lots]
+            for lot in range(lots):
+                for price in (0, 1, 3):
+                    tried.append([price if lot == j else 0 for j in range(lots)])
+                    tried.append([price if lot == j else reserves[j] for j in range(lots)])
+            self.expect_overdemanded(reserves, bids, tried)
 
-    def test_minimum_and_maximum_prices_are_equilibrium_prices(self):
+    def test_overdemanded_set_at_any_prices(self):
+        source = random.Random(8)
         for reserves, bids in many_auctions():
-            result, low, high = after_closing(reserves, bids, RESULT, MINIMUM, MAXIMUM)
-            counted = oracle.counted(bids, len(reserves))
-            for prices in (prices_of(low), prices_of(high)):
-                self.assertEqual(oracle.check(reserves, counted, result[1::2], prices), [1], (reserves, bids))
-                self.assertEqual(after_closing(reserves, bids, check(prices)), [[0, 1]], (reserves, bids))
+            self.expect_overdemanded(reserves, bids, some_rows(source, len(reserves)))
 
-    def test_all_equilibrium_prices_lie_between_them(self):
-        for lots, highest, count in ((1, 6, 60), (2, 5, 60), (3, 3, 40), (4, 2, 30)):
-            for reserves, bids in small_auctions(count, lots, highest, seed=lots):
-                low, high = after_closing(reserves, bids, MINIMUM, MAXIMUM)
-                found = oracle.equilibria(reserves, oracle.counted(bids, lots), highest + 1)
-                self.assertEqual(prices_of(low), [min(column) for column in zip(*found)], (reserves, bids))
-                self.assertEqual(prices_of(high), [max(column) for column in zip(*found)], (reserves, bids))
-
-    def test_the_clock_would_end_at_the_minimum_prices(self):
+    def test_run_clock(self):
         for reserves, bids in many_auctions():
-            low = after_closing(reserves, bids, MINIMUM)[0]
+            sets, prices = oracle.clock(reserves, oracle.counted(bids, len(reserves)))
+            answered = after_closing(reserves, bids, CLOCK)
+            self.assertEqual(answered, [[0] + listed(sets) + listed(prices)], (reserves, bids))
+
+    def test_each_round_raises_what_overdemanded_set_tells(self):
+        for reserves, bids in small_auctions(30, 4, 9, seed=3):
+            clock = after_closing(reserves, bids, CLOCK)[0]
+            sets, prices = clock[2:2 + clock[1]], list(reserves)
+            tried = []
+            for members in sets:
+                tried.append(prices)
+                prices = [price + (members >> lot & 1) for lot, price in enumerate(prices)]
+            answered = after_closing_in_parts(reserves, bids, [overdemanded(row) for row in tried + [prices]])
+            self.assertEqual(answered, [[0, 1, members] for members in sets] + [[0, 0]], (reserves, bids))
+            self.assertEqual(clock[2 + clock[1]:], listed(prices))
+
+
+class OtherBidsTest(unittest.TestCase):
+
+    def test_hypothetical_result_and_truthful_utility(self):
+        source = random.Random(9)
+        for reserves, bids in many_auctions(3):
             counted = oracle.counted(bids, len(reserves))
-            self.assertEqual(prices_of(low), oracle.clock_prices(reserves, counted), (reserves, bids))
+            rows = some_rows(source, len(reserves), 1)
+            for i in range(5):
+                results = [oracle.result_if(reserves, counted, i, row) for row in rows]
+                answered = after_closing(reserves, bids, *[hypothetical(i, row) for row in rows],
+                                         *[truthful(i, row) for row in rows])
+                expected = [[0, *result] for result in results]
+                expected += [[0, oracle.utility(result, row)] for result, row in zip(results, rows)]
+                self.assertEqual(answered, expected, (reserves, bids, i, rows))
 
-    def test_no_bids_are_better_than_the_true_values(self):
-        def utility(reserves, bids, values):
-            result = after_closing(reserves, bids, RESULT)[0][1:]
-            return values[result[0]] - result[1] if result[0] >= 0 else 0
+    def test_utility(self):
+        source = random.Random(10)
+        for reserves, bids in many_auctions(10):
+            results = oracle.results(reserves, oracle.counted(bids, len(reserves)))
+            asked = [(i, row) for i in range(5) for row in some_rows(source, len(reserves), 1)]
+            answered = after_closing_in_parts(reserves, bids, [utility(i, row) for i, row in asked])
+            self.assertEqual(answered, [[0, oracle.utility(results[i], row)] for i, row in asked], (reserves, bids))
 
-        for lots, highest, count in ((1, 5, 30), (2, 4, 20), (3, 2, 10)):
-            for reserves, bids in small_auctions(count, lots, highest, seed=lots + 50):
-                values = bids[0] or [highest] * lots
-                truthful = utility(reserves, [values] + bids[1:], values)
-                self.assertGreaterEqual(truthful, 0)
-                self.assertGreaterEqual(truthful, utility(reserves, [None] + bids[1:], values))
-                for row in itertools.product(range(highest + 2), repeat=lots):
-                    self.assertGreaterEqual(truthful, utility(reserves, [list(row)] + bids[1:], values))
+    def test_total_without(self):
+        for reserves, bids in many_auctions():
+            counted = oracle.counted(bids, len(reserves))
+            answered = after_closing(reserves, bids, *[total_without(i) for i in range(5)])
+            expected = [[0, oracle.best(reserves, counted[:i] + counted[i + 1:])[0]] for i in range(5)]
+            self.assertEqual(answered, expected, (reserves, bids))
 
-    def test_until_closing_no_answer_depends_on_the_bids(self):
-        def told(bids):
-            calls = [submit(i, row) for i, row in enumerate(bids)]
-            return ask(new([3, 4]), *calls, RESULT, MINIMUM, MAXIMUM, TOTAL, check([3, 4]), demand(0, [3, 4]),
-                       *calls, CLOSE)
+    def test_who_gets_a_lot_pays_what_the_others_lose(self):
+        for reserves, bids in many_auctions():
+            result, total, *others = after_closing(reserves, bids, RESULT, TOTAL, *[total_without(i) for i in range(5)])
+            for i, row in enumerate(bids):
+                lot, payment = result[1 + 2 * i:3 + 2 * i]
+                without = others[i][1]
+                self.assertEqual(payment, without - total[1] + (row[lot] if lot >= 0 else 0), (reserves, bids, i))
 
-        source = random.Random(11)
-        expected = told([[0, 0]] * 5)
-        for _ in range(100):
-            self.assertEqual(told([[source.randint(0, 60), source.randint(0, 60)] for _ in range(5)]), expected)
+
+class TellingTest(unittest.TestCase):
+
+    def test_list_submitted_list_bids_and_summary(self):
+        for reserves, bids in many_auctions():
+            counted = oracle.counted(bids, len(reserves))
+            answered = after_closing(reserves, bids, SUBMITTED, BIDS, SUMMARY)
+            expected = [[0] + [0 if row is None else 1 for row in bids], [0] + [bid for row in counted for bid in row],
+                        [0] + listed(reserves) + [1]]
+            self.assertEqual(answered, expected)
 
 
 if __name__ == "__main__":
